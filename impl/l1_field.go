@@ -82,6 +82,16 @@ func powerModulo(base int, exponent int, modulus int) int {
 	return power
 }
 
+// numbersOk reports whether all of a list are numbers.
+func numbersOk(list []int) bool {
+	for _, a := range list {
+		if !NumOk(a) {
+			return false
+		}
+	}
+	return true
+}
+
 // NumOk reports whether a is one of the numbers.
 func NumOk(a int) bool {
 	return number(a).ok()

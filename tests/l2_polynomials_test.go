@@ -114,8 +114,8 @@ func wantPolynomial(t *testing.T, name string, got []int, ok bool) []int {
 	return got
 }
 
-// wantNoPolynomial fails the test unless a result is nothing and false.
-func wantNoPolynomial(t *testing.T, name string, got []int, ok bool) {
+// wantNoList fails the test unless a result is nothing and false.
+func wantNoList(t *testing.T, name string, got []int, ok bool) {
 	t.Helper()
 	if len(got) != 0 || ok {
 		t.Errorf("%s is %v, %v, not nothing and false", name, got, ok)
@@ -254,7 +254,7 @@ func TestPolyAtOfPolyMul(t *testing.T) {
 			want := productOf(p, q)
 			if len(want) > 20 {
 				got, ok := impl.PolyMul(p, q)
-				wantNoPolynomial(t, "PolyMul", got, ok)
+				wantNoList(t, "PolyMul", got, ok)
 				continue
 			}
 			product := polyMul(t, p, q)
@@ -283,7 +283,7 @@ func TestPolyMulHasAtMostTwentyCoefficients(t *testing.T) {
 		}
 		if n > 1 {
 			got, ok := impl.PolyMul(p, drawnPolynomial(draw, 22-n))
-			wantNoPolynomial(t, "PolyMul", got, ok)
+			wantNoList(t, "PolyMul", got, ok)
 		}
 		if got := polyMul(t, p, nil); len(got) != 0 {
 			t.Errorf("PolyMul(%v, 0) is %v", p, got)
@@ -294,7 +294,7 @@ func TestPolyMulHasAtMostTwentyCoefficients(t *testing.T) {
 	}
 	greatest := slices.Repeat([]int{112}, 20)
 	got, ok := impl.PolyMul(greatest, greatest)
-	wantNoPolynomial(t, "PolyMul", got, ok)
+	wantNoList(t, "PolyMul", got, ok)
 }
 
 // P14
@@ -303,8 +303,8 @@ func TestPolyMulOfTheQuotientAndTheRestAddUp(t *testing.T) {
 		for _, b := range somePolynomials() {
 			if len(b) == 0 {
 				quotient, rest, ok := impl.PolyDivide(a, b)
-				wantNoPolynomial(t, "the quotient by 0", quotient, ok)
-				wantNoPolynomial(t, "the rest by 0", rest, ok)
+				wantNoList(t, "the quotient by 0", quotient, ok)
+				wantNoList(t, "the rest by 0", rest, ok)
 				continue
 			}
 			quotient, rest := polyDivide(t, a, b)
@@ -427,29 +427,29 @@ func TestPolyThroughIsToldJustOfPoints(t *testing.T) {
 				list := drawnPoints(draw, n)
 				list[i].X = bad
 				p, ok := impl.PolyThrough(list)
-				wantNoPolynomial(t, "PolyThrough", p, ok)
+				wantNoList(t, "PolyThrough", p, ok)
 				list = drawnPoints(draw, n)
 				list[i].Y = bad
 				p, ok = impl.PolyThrough(list)
-				wantNoPolynomial(t, "PolyThrough", p, ok)
+				wantNoList(t, "PolyThrough", p, ok)
 			}
 			for j := range i {
 				list := drawnPoints(draw, n)
 				list[i].X = list[j].X
 				p, ok := impl.PolyThrough(list)
-				wantNoPolynomial(t, "PolyThrough", p, ok)
+				wantNoList(t, "PolyThrough", p, ok)
 				list[i].Y = list[j].Y
 				p, ok = impl.PolyThrough(list)
-				wantNoPolynomial(t, "PolyThrough", p, ok)
+				wantNoList(t, "PolyThrough", p, ok)
 			}
 		}
 	}
 	for _, n := range []int{21, 22, 113} {
 		p, ok := impl.PolyThrough(drawnPoints(draw, n))
-		wantNoPolynomial(t, "PolyThrough", p, ok)
+		wantNoList(t, "PolyThrough", p, ok)
 	}
 	p, ok := impl.PolyThrough(make([]impl.Point, 1000))
-	wantNoPolynomial(t, "PolyThrough", p, ok)
+	wantNoList(t, "PolyThrough", p, ok)
 }
 
 // zerosOf returns how many numbers there are at which PolyAt is 0.
@@ -505,12 +505,12 @@ func TestOperationsAreToldJustOfPolynomials(t *testing.T) {
 	wantNone := func(p, q []int) {
 		t.Helper()
 		sum, ok := impl.PolyAdd(p, q)
-		wantNoPolynomial(t, "PolyAdd", sum, ok)
+		wantNoList(t, "PolyAdd", sum, ok)
 		product, ok := impl.PolyMul(p, q)
-		wantNoPolynomial(t, "PolyMul", product, ok)
+		wantNoList(t, "PolyMul", product, ok)
 		quotient, rest, ok := impl.PolyDivide(p, q)
-		wantNoPolynomial(t, "the quotient", quotient, ok)
-		wantNoPolynomial(t, "the rest", rest, ok)
+		wantNoList(t, "the quotient", quotient, ok)
+		wantNoList(t, "the rest", rest, ok)
 	}
 	for _, bad := range notPolynomials() {
 		for _, p := range [][]int{nil, {1}, {0, 2}, slices.Repeat([]int{112}, 20)} {
