@@ -524,43 +524,61 @@ func TestOperationsAreToldJustOfPolynomials(t *testing.T) {
 // spare is what the tests keep behind an argument, where a program that appends to the argument would write.
 const spare = -7
 
-// withSpare returns a copy of a list, with room for more behind it.
-func withSpare(p []int) []int {
-	room := append(slices.Clone(p), slices.Repeat([]int{spare}, 25)...)
-	return room[:len(p)]
+// withRoom returns a copy of a list, with room for more behind it that is filled.
+func withRoom[E any](list []E, behind E) []E {
+	room := append(slices.Clone(list), slices.Repeat([]E{behind}, 25)...)
+	return room[:len(list)]
 }
 
-// wantOwnMemory fails the test if a call changes an argument, or if writing all over a result, up to its capacity, changes an argument or another result.
-func wantOwnMemory(t *testing.T, name string, args [][]int, call func() [][]int) {
-	t.Helper()
-	whole := func(lists [][]int) [][]int {
-		copies := make([][]int, len(lists))
-		for i, list := range lists {
-			copies[i] = slices.Clone(list[:cap(list)])
-		}
-		return copies
+// withSpare returns a copy of a list of whole numbers, with room for more behind it.
+func withSpare(p []int) []int {
+	return withRoom(p, spare)
+}
+
+// whole returns copies of lists, up to their capacities.
+func whole[E any](lists [][]E) [][]E {
+	copies := make([][]E, len(lists))
+	for i, list := range lists {
+		copies[i] = slices.Clone(list[:cap(list)])
 	}
+	return copies
+}
+
+// sameLists reports whether lists are the same, one by one.
+func sameLists[E comparable](a, b [][]E) bool {
+	return slices.EqualFunc(a, b, slices.Equal[[]E])
+}
+
+// wantOwnMemoryOf fails the test if a call changes an argument, or if writing a mark all over a result, up to its capacity, changes an argument or another result.
+func wantOwnMemoryOf[A, R comparable](t *testing.T, name string, args [][]A, mark R, call func() [][]R) {
+	t.Helper()
 	before := whole(args)
 	results := call()
 	for i, result := range results {
-		others := append(slices.Concat(args, results[:i]), results[i+1:]...)
-		kept := whole(others)
+		others := slices.Concat(results[:i], results[i+1:])
+		kept, keptArgs := whole(others), whole(args)
 		result = result[:cap(result)]
 		old := slices.Clone(result)
 		for j := range result {
-			result[j] = spare - 1
+			result[j] = mark
 		}
-		if !slices.EqualFunc(whole(others), kept, slices.Equal[[]int]) {
+		if !sameLists(whole(others), kept) || !sameLists(whole(args), keptArgs) {
 			t.Errorf("%s of %v: result %d shares memory", name, args, i)
 		}
 		copy(result, old)
 	}
-	if !slices.EqualFunc(whole(args), before, slices.Equal[[]int]) {
+	if !sameLists(whole(args), before) {
 		t.Errorf("%s changes an argument: %v, and %v before", name, args, before)
 	}
-	if again := call(); !slices.EqualFunc(again, results, slices.Equal[[]int]) {
+	if again := call(); !sameLists(again, results) {
 		t.Errorf("%s of %v is %v, and %v before", name, args, again, results)
 	}
+}
+
+// wantOwnMemory is wantOwnMemoryOf for lists of whole numbers.
+func wantOwnMemory(t *testing.T, name string, args [][]int, call func() [][]int) {
+	t.Helper()
+	wantOwnMemoryOf(t, name, args, spare-1, call)
 }
 
 // P10 to P17: the general rules on memory.

@@ -450,7 +450,7 @@ func TestMatrixKernelReckonedByHand(t *testing.T) {
 		{[][]int{{1, 2, 3}, {4, 5, 6}, {7, 8, 9}}, [][]int{{1, 111, 1}}},
 		{[][]int{{1, 1, 0, 2}, {0, 0, 1, 3}}, [][]int{{112, 1, 0, 0}, {111, 0, 110, 1}}},
 	} {
-		if got := impl.MatrixKernel(c.m); !slices.EqualFunc(got, c.want, slices.Equal[[]int]) {
+		if got := impl.MatrixKernel(c.m); !sameLists(got, c.want) {
 			t.Errorf("MatrixKernel(%v) is %v, not %v", c.m, got, c.want)
 		}
 	}
