@@ -92,6 +92,16 @@ func numbersOk(list []int) bool {
 	return true
 }
 
+// elementsOk reports whether all of a list are elements.
+func elementsOk(list []int) bool {
+	for _, g := range list {
+		if !ElementOk(g) {
+			return false
+		}
+	}
+	return true
+}
+
 // NumOk reports whether a is one of the numbers.
 func NumOk(a int) bool {
 	return number(a).ok()
