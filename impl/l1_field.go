@@ -92,6 +92,11 @@ func numbersOk(list []int) bool {
 	return true
 }
 
+// manyNumbers reports whether a list is just so many numbers.
+func manyNumbers(list []int, many int) bool {
+	return len(list) == many && numbersOk(list)
+}
+
 // elementsOk reports whether all of a list are elements.
 func elementsOk(list []int) bool {
 	for _, g := range list {
