@@ -53,6 +53,11 @@ func (g element) times(h element) element {
 	return g * h % GroupMod
 }
 
+// over returns the quotient of two elements that are ok: the power FieldMod of h is 1, so the one before it is what h times is 1.
+func (g element) over(h element) element {
+	return g.times(h.power(FieldMod - 1))
+}
+
 // power returns the power of an element that is ok with a number that is ok as exponent.
 func (g element) power(e number) element {
 	return element(powerModulo(int(g), int(e), GroupMod))
